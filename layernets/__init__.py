@@ -1,0 +1,1 @@
+"""Layernets: nets of weirs, dividers and joins, whatever comes in."""

@@ -1,0 +1,76 @@
+"""[22]: names, arguments, and in which file each is defined."""
+
+import inspect
+import unittest
+from importlib import import_module
+
+from tests.support import Case
+
+# File by file: each function with its parameters.
+FUNCTIONS = {
+    "nets": {
+        "is_part": ("thing",),
+        "made_by": ("net", "channel"),
+        "taken_by": ("net", "channel"),
+        "with_part": ("net", "part"),
+        "first_parts": ("net", "number"),
+        "renamed": ("net", "one", "new"),
+    },
+    "texts": {
+        "amount_text": ("amount",),
+        "part_text": ("part",),
+        "shares_text": ("shares",),
+        "amount_from": ("text",),
+        "part_from": ("text",),
+        "shares_from": ("text",),
+    },
+}
+# File by file: each class with the parameters of its constructor, its properties, and its methods with their parameters.
+CLASSES = {
+    "nets": {
+        "Net": (("parts",), ("parts", "channels", "outlets", "weirs", "text"), {"of": ("text",)}),
+    },
+}
+
+
+def parameters(call):
+    return tuple(inspect.signature(call).parameters)
+
+
+class InterfaceTest(Case):
+
+    def test_functions(self):
+        for file, functions in FUNCTIONS.items():
+            module = import_module(f"layernets.{file}")
+            for name, wanted in functions.items():
+                with self.subTest(file=file, name=name):
+                    function = getattr(module, name)
+                    self.assertTrue(inspect.isfunction(function))
+                    self.assertEqual(function.__module__, f"layernets.{file}")
+                    self.assertEqual(parameters(function), wanted)
+
+    def test_classes(self):
+        for file, classes in CLASSES.items():
+            module = import_module(f"layernets.{file}")
+            for name, (wanted, properties, methods) in classes.items():
+                with self.subTest(file=file, name=name):
+                    found = getattr(module, name)
+                    self.assertTrue(inspect.isclass(found))
+                    self.assertEqual(found.__module__, f"layernets.{file}")
+                    self.assertEqual(parameters(found), wanted)
+                    for attribute in properties:
+                        self.assertIsInstance(vars(found)[attribute], property)
+                    for method, words in methods.items():
+                        self.assertIn(method, vars(found))
+                        self.assertEqual(tuple(word for word in parameters(getattr(found, method)) if word != "self"), words)
+                    self.assertIn("__len__", vars(found))
+                    self.assertIn("__eq__", vars(found))
+
+    def test_net_of_is_static(self):
+        net = import_module("layernets.nets").Net
+        self.assertIsInstance(vars(net)["of"], staticmethod)
+        self.same(net().of("weir in 3 a r").text, "weir in 3 a r")
+
+
+if __name__ == "__main__":
+    unittest.main()
