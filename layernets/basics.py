@@ -1,4 +1,4 @@
-"""What all other files build on: which values are of which kind, and sums of FRACTIONS."""
+"""What all other files build on: which values are of which kind."""
 
 from math import gcd
 
@@ -60,11 +60,3 @@ def as_tuples(value):
     if isinstance(value, (list, tuple)):
         return tuple([as_tuples(item) for item in value])
     return value
-
-
-def plus(one, other):
-    """The sum of two FRACTIONS."""
-    top = one[0] * other[1] + other[0] * one[1]
-    bottom = one[1] * other[1]
-    common = gcd(top, bottom)
-    return (top // common, bottom // common)

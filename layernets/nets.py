@@ -1,7 +1,7 @@
 """Nets: PARTS one behind another, each of which takes channels and makes new ones."""
 
 from layernets.basics import as_tuples, is_single_part
-from layernets.errors import BadPart, BadText, Known, NoChannel, NoPlace
+from layernets.errors import BadPart, BadText, Known, NoChannel, NoOutlet, NoPlace
 from layernets.texts import part_from, part_text
 
 
@@ -15,9 +15,9 @@ class Net:
         for place, part in enumerate(parts):
             if not _fits(part, free):
                 raise BadPart(place)
-            for channel in _taken(part):
+            for channel in channels_taken(part):
                 free[channel] = False
-            for channel in _made(part):
+            for channel in channels_made(part):
                 free[channel] = True
         self._parts = parts
         self._channels = tuple(sorted(free))
@@ -79,18 +79,18 @@ def is_part(thing):
 
 def made_by(net, channel):
     """The place of the PART that makes this channel, None for "in"; raises NoChannel(name)."""
-    _check_channel(net, channel)
+    check_channel(net, channel)
     for place, part in enumerate(net.parts):
-        if channel in _made(part):
+        if channel in channels_made(part):
             return place
     return None
 
 
 def taken_by(net, channel):
     """The place of the PART that takes this channel, None for an outlet; raises NoChannel(name)."""
-    _check_channel(net, channel)
+    check_channel(net, channel)
     for place, part in enumerate(net.parts):
-        if channel in _taken(part):
+        if channel in channels_taken(part):
             return place
     return None
 
@@ -111,22 +111,44 @@ def renamed(net, one, new):
     """The Net whose channel one has the NAME new; raises NoChannel(name), then Known(name)."""
     if one == "in":
         raise NoChannel(one)
-    _check_channel(net, one)
+    check_channel(net, one)
     if new in net.channels:
         raise Known(new)
-    return Net([_part_renamed(part, one, new) for part in net.parts])
+    return Net([part_renamed(part, one, new) for part in net.parts])
 
 
-def _check_channel(net, channel):
+def check_channel(net, channel):
     """Raises NoChannel(name) if no channel of the Net has this NAME."""
     if channel not in net.channels:
         raise NoChannel(channel)
 
 
-def _part_renamed(part, one, new):
+def check_outlet(net, outlet):
+    """Raises NoOutlet(name) if no outlet of the Net has this NAME."""
+    if outlet not in net.outlets:
+        raise NoOutlet(outlet)
+
+
+def check_weir(net, place):
+    """Raises NoPlace(number) if no PART has this place, or if it is no weir."""
+    if place < 0 or place >= len(net) or net.parts[place][0] != "weir":
+        raise NoPlace(place)
+
+
+def part_renamed(part, one, new):
     """The PART with the NAME new for the channel one."""
     # A channel may be called as a PART is: the word in front stays.
     return part[:1] + tuple([new if item == one else item for item in part[1:]])
+
+
+def channels_taken(part):
+    """The channels that a PART takes."""
+    return part[1:3] if part[0] == "join" else part[1:2]
+
+
+def channels_made(part):
+    """The channels that a PART makes."""
+    return part[3:]
 
 
 def _parts_until_wrong(pieces):
@@ -140,19 +162,9 @@ def _parts_until_wrong(pieces):
     return parts
 
 
-def _taken(part):
-    """The channels that a PART takes."""
-    return part[1:3] if part[0] == "join" else part[1:2]
-
-
-def _made(part):
-    """The channels that a PART makes."""
-    return part[3:]
-
-
 def _fits(part, free):
     """Whether a PART fits behind those that made these channels; free tells which of them are not taken."""
-    taken, made = _taken(part), _made(part)
+    taken, made = channels_taken(part), channels_made(part)
     if len(set(taken)) < len(taken) or len(set(made)) < len(made):
         return False
     if any([channel in free for channel in made]):

@@ -1,6 +1,7 @@
 """AMOUNTS, PARTS and SHARES as texts, there and back."""
 
-from layernets.basics import is_amount, is_name, is_share, is_single_part, plus
+from layernets.arithmetic import ONE, ZERO, plus
+from layernets.basics import is_amount, is_name, is_share, is_single_part
 from layernets.errors import BadText
 
 
@@ -44,7 +45,7 @@ def shares_from(text):
     pieces = text.split("; ")
     shares = []
     ahead = ""
-    total = (0, 1)
+    total = ZERO
     for number, piece in enumerate(pieces):
         outlet, share = _pair_or_nones(piece)
         if outlet is None or outlet <= ahead:
@@ -52,7 +53,7 @@ def shares_from(text):
         shares.append((outlet, share))
         ahead = outlet
         total = plus(total, share)
-    if total != (1, 1):
+    if total != ONE:
         raise BadText(len(pieces))
     return tuple(shares)
 
@@ -61,7 +62,7 @@ def _pair_or_nones(piece):
     """The outlet and its share with this text, or None for both."""
     outlet, _, word = piece.partition(" ")
     share = _amount_or_none(word)
-    if not is_name(outlet) or not is_share(share) or share == (0, 1):
+    if not is_name(outlet) or not is_share(share) or share == ZERO:
         return None, None
     return outlet, share
 
