@@ -47,6 +47,31 @@ FUNCTIONS = {
         "is_net_of": ("table", "net"),
         "leanest": ("net",),
     },
+    "lead": {
+        "less_at": ("one", "other", "outlet"),
+        "never_less": ("one", "other", "outlet"),
+        "is_less_at": ("one", "other", "outlet", "thing"),
+        "most_lead": ("one", "other", "outlet"),
+        "compare": ("one", "other", "outlet"),
+    },
+    "back": {
+        "least_inflow": ("net", "outlet", "amount"),
+        "most_inflow": ("net", "outlet", "amount"),
+        "greatest_amount": ("net", "outlet"),
+        "inflow_for": ("net", "flows"),
+    },
+    "chains": {
+        "behind": ("net", "outlet", "other"),
+        "table_behind": ("table", "outlet", "other"),
+        "mixed": ("one", "other", "share"),
+        "weired": ("one", "limit", "other"),
+    },
+    "moves": {
+        "limit_changed": ("net", "place", "limit"),
+        "limit_for": ("net", "place", "border"),
+        "unchanged_to": ("net", "place", "limit"),
+        "exchanged_parts": ("net", "place"),
+    },
     "texts": {
         "amount_text": ("amount",),
         "part_text": ("part",),
