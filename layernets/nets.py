@@ -107,6 +107,13 @@ def first_parts(net, number):
     return Net(net.parts[:number])
 
 
+def lifted(net):
+    """The Net without its last PART; raises NoPlace(0) if it has none."""
+    if len(net) == 0:
+        raise NoPlace(0)
+    return first_parts(net, len(net) - 1)
+
+
 def renamed(net, one, new):
     """The Net whose channel one has the NAME new; raises NoChannel(name), then Known(name)."""
     if one == "in":

@@ -72,6 +72,17 @@ FUNCTIONS = {
         "unchanged_to": ("net", "place", "limit"),
         "exchanged_parts": ("net", "place"),
     },
+    "hidden": {
+        "told_table": ("flows",),
+        "has_flows": ("table", "flows"),
+        "surveyed": ("most", "asker"),
+    },
+    "rules": {
+        "in_turn": ("claims",),
+        "by_share": ("claims",),
+        "evenly": ("claims",),
+        "topmost": ("claims",),
+    },
     "texts": {
         "amount_text": ("amount",),
         "part_text": ("part",),
@@ -81,10 +92,26 @@ FUNCTIONS = {
         "shares_from": ("text",),
     },
 }
-# File by file: each class with the parameters of its constructor, its properties, and its methods with their parameters.
+# File by file: each class with the parameters of its constructor, its properties, its methods with their parameters, and its signs.
 CLASSES = {
     "nets": {
-        "Net": (("parts",), ("parts", "channels", "outlets", "weirs", "text"), {"of": ("text",)}),
+        "Net": (("parts",), ("parts", "channels", "outlets", "weirs", "text"), {"of": ("text",)}, ("__len__", "__eq__")),
+    },
+    "changes": {
+        "Watch": (
+            ("net",),
+            ("net", "told"),
+            {"lay": ("part",), "lift": (), "limit": ("place", "limit"), "back": (), "twin": ()},
+            ("__len__", "__eq__"),
+        ),
+    },
+    "ranks": {
+        "Ranks": (
+            ("rows", "outlet"),
+            ("names", "outlet"),
+            {"is_never_less": ("name", "other"), "all_pairs": (), "below": ("name",), "above": ("name",), "ties": (), "layers": (), "chain": ()},
+            ("__len__", "__eq__", "__contains__", "__getitem__"),
+        ),
     },
 }
 
@@ -108,7 +135,7 @@ class InterfaceTest(Case):
     def test_classes(self):
         for file, classes in CLASSES.items():
             module = import_module(f"layernets.{file}")
-            for name, (wanted, properties, methods) in classes.items():
+            for name, (wanted, properties, methods, signs) in classes.items():
                 with self.subTest(file=file, name=name):
                     found = getattr(module, name)
                     self.assertTrue(inspect.isclass(found))
@@ -119,8 +146,8 @@ class InterfaceTest(Case):
                     for method, words in methods.items():
                         self.assertIn(method, vars(found))
                         self.assertEqual(tuple(word for word in parameters(getattr(found, method)) if word != "self"), words)
-                    self.assertIn("__len__", vars(found))
-                    self.assertIn("__eq__", vars(found))
+                    for sign in signs:
+                        self.assertIn(sign, vars(found))
 
     def test_net_of_is_static(self):
         net = import_module("layernets.nets").Net

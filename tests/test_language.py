@@ -124,6 +124,36 @@ class LanguageTest(unittest.TestCase):
             if isinstance(node.func, ast.Attribute) and node.func.attr != "__init__":
                 self.assertIn(node.func.attr, own | set(METHODS), where(path, node))
 
+    def test_classes_with_brackets(self):
+        classes = [(path, node, {child.name: child for child in node.body if isinstance(child, ast.FunctionDef)}) for path, node in nodes(ast.ClassDef)]
+        for path, node, methods in classes:
+            if "__getitem__" in methods:
+                self.assertIn("__iter__", methods, where(path, node))
+                self.assertNotIn("keys", {name for _, _, others in classes for name in others}, where(path, node))
+        for path in TREES:
+            self.assertNotRegex(path.read_text(encoding="utf-8"), r"\(type\)|Meta|metaclass=")
+        # Where a class has __eq__ or an operator, these take lists; reversed takes what is plainly a list.
+        for path, node in nodes(ast.Call):
+            if isinstance(node.func, ast.Name) and node.func.id in ("any", "all", "min", "max", "sum", "sorted"):
+                self.assertFalse([one for one in node.args if isinstance(one, ast.GeneratorExp)], where(path, node))
+            if isinstance(node.func, ast.Name):
+                self.assertNotEqual(node.func.id, "reversed", where(path, node))
+
+    def test_properties(self):
+        """No method, and no attribute that is assigned, has the name of a property."""
+        named, properties = set(), set()
+        for _, node in nodes(ast.ClassDef):
+            for child in node.body:
+                if isinstance(child, ast.FunctionDef):
+                    (properties if any(ast.unparse(one) == "property" for one in child.decorator_list) else named).add(child.name)
+        named.update(node.attr for _, node in nodes(ast.Attribute) if isinstance(node.ctx, ast.Store))
+        self.assertEqual(sorted(named & properties), [])
+
+    def test_lengths(self):
+        for path, node in nodes(ast.FunctionDef):
+            if node.name == "__len__":
+                self.assertRegex(ast.unparse(node.body[-1]), r"\Areturn (len\(.*\)|\d+)\Z", where(path, node))
+
     def test_decorators(self):
         for path, node in nodes(ast.FunctionDef, ast.ClassDef):
             for decorator in node.decorator_list:
