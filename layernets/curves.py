@@ -116,6 +116,17 @@ def most_place(curve, amount):
     return None
 
 
+def place_below(lead):
+    """An INFLOW at which less than nothing has come, by rates of any sign; None if there is none."""
+    for begin, until, ahead, rate in stretches(lead):
+        if is_less(ahead, ZERO):
+            return begin
+        if until is None and is_less(rate, ZERO):
+            # Where the lead is used up, and one drop more.
+            return plus(plus(begin, over(ahead, minus(ZERO, rate))), ONE)
+    return None
+
+
 def led(curve, way):
     """The curve of what comes by curve, of what the curve way, of rates from 0, brings to it."""
     rows = []

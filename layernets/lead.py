@@ -1,8 +1,8 @@
 """Never less: whether an outlet ever gets less by one Net than by another."""
 
-from layernets.arithmetic import ONE, ZERO, greater, is_less, minus, over, plus
+from layernets.arithmetic import ZERO, greater, is_less
 from layernets.basics import is_amount
-from layernets.curves import amount_by, stretches, subtracted
+from layernets.curves import amount_by, place_below, stretches, subtracted
 from layernets.nets import check_outlet
 from layernets.tables import channel_curves
 
@@ -14,13 +14,7 @@ def never_less(one, other, outlet):
 
 def less_at(one, other, outlet):
     """An INFLOW of which one gives the outlet less than other, None if there is none; raises NoOutlet(name)."""
-    for begin, until, lead, rate in stretches(_lead(one, other, outlet)):
-        if is_less(lead, ZERO):
-            return begin
-        if until is None and is_less(rate, ZERO):
-            # Where the lead is used up, and one drop more.
-            return plus(plus(begin, over(lead, minus(ZERO, rate))), ONE)
-    return None
+    return place_below(_lead(one, other, outlet))
 
 
 def is_less_at(one, other, outlet, thing):
